@@ -23,3 +23,14 @@ def odd_things():
     ]
     within = [(thing,) for thing in plain] + [(thing, thing) for thing in plain]
     return plain + within + [(thing, thing, thing) for thing in plain]
+
+
+def no_words():
+    """New ones each time; none is a word, and so none is a key or the name of a house."""
+    texts = ["", "A", "aB", "abcdefg", "a1", "1", "a b", " a", "a\n", "\n", "a-", "_", "`", "{", "\xe9", b"a"]
+    return [thing for thing in odd_things() if not isinstance(thing, str)] + texts + [0, 1, -1, 10 ** 29]
+
+
+def no_wholes():
+    """New ones each time; none is a whole number."""
+    return [thing for thing in odd_things() if not isinstance(thing, (float, complex))] + ["0", "1", b"1", [1], (1,)]

@@ -2,8 +2,8 @@
 
 import unittest
 
-from heldhints.kinds import is_whole, is_word, rises
-from odd import odd_things
+from heldhints.kinds import first_wrong, is_between, is_whole, is_word, rises
+from odd import no_wholes, odd_things
 
 
 class Kinds(unittest.TestCase):
@@ -33,6 +33,22 @@ class Kinds(unittest.TestCase):
             self.assertIs(rises(row), True, row)
         for row in ((1, 1), (2, 1), [1, 3, 2], [1, 2, 2]):
             self.assertIs(rises(row), False, row)
+
+    def test_between(self):
+        for thing, wanted in ((2, False), (3, True), (4, True), (5, True), (6, False), (-3, False)):
+            self.assertIs(is_between(thing, 3, 5), wanted, thing)
+        self.assertIs(is_between(True, 0, 5), False)
+        self.assertIs(is_between(3, 3, 2), False)
+        for thing in no_wholes():
+            self.assertIs(is_between(thing, -5, 5), False)
+
+    def test_first_wrong(self):
+        for row in ((), [], (1,), [2, 1], (3, 1, 2)):
+            self.assertIs(first_wrong(row, is_whole), None, row)
+        for row, wanted in (([None], 0), ((1, 2, "a", "a"), 2), ([1, 2, 1, None], 2), ([1, 1], 1), ([1, True], 1)):
+            self.assertEqual(first_wrong(row, is_whole), wanted, row)
+        for thing in no_wholes():
+            self.assertEqual(first_wrong([1, thing, thing], is_whole), 1)
 
 
 if __name__ == "__main__":

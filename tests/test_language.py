@@ -128,16 +128,37 @@ class Rows(unittest.TestCase):
 
 
 class Interface(unittest.TestCase):
+    functions = {
+        "dots.py": "is_dot is_known together cut next_number",
+        "cells.py": "is_mark is_worth is_version is_cell puts_out new_version joined without_elder dots_of "
+                    "known_by worths_of has_or_more",
+        "ring.py": "is_key is_place place_of",
+        "news.py": "look_at_news",
+        "trees.py": "differing",
+    }
+    classes = {
+        ("ring.py", "Ring"): "marks houses order homes with_house without __eq__ __len__",
+        ("news.py", "News"): "doubt take here rise come leave entry entries called twin __eq__",
+        ("trees.py", "Tree"): "put node leaf words twin __eq__ __len__",
+        ("house.py", "House"): "called life counted new_dot keep cell note all_of words notes given_back put_cell "
+                               "put_note sweep lose_all state twin __eq__ __len__",
+    }
+
     def test_each_function_stands_in_its_file(self):
-        listed = {
-            "dots.py": "is_dot is_known together cut next_number",
-            "cells.py": "is_mark is_worth is_version is_cell puts_out new_version joined without_elder dots_of "
-                        "known_by worths_of has_or_more",
-        }
-        for name, tree in trees():
-            defined = [node.name for node in tree.body if isinstance(node, ast.FunctionDef)]
-            for word in listed.get(name, "").split():
+        found = dict(trees())
+        for name, words in self.functions.items():
+            defined = [node.name for node in found[name].body if isinstance(node, ast.FunctionDef)]
+            for word in words.split():
                 self.assertIn(word, defined, name)
+
+    def test_each_method_stands_in_its_class_itself(self):
+        found = dict(trees())
+        for (name, called), words in self.classes.items():
+            bodies = [node.body for node in found[name].body if isinstance(node, ast.ClassDef) and node.name == called]
+            self.assertEqual(len(bodies), 1, called)
+            defined = [node.name for node in bodies[0] if isinstance(node, ast.FunctionDef)]
+            for word in words.split():
+                self.assertIn(word, defined, called)
 
 
 if __name__ == "__main__":
