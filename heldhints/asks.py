@@ -57,6 +57,10 @@ class Writing:
         self.own_held.append(called)
         return len(self.own_held) == self.own_need
 
+    def state(self):
+        """All by which writings are alike, whatever the order of their answers."""
+        return (self.own_word, self.own_version, tuple(self.own_targets), self.own_need, tuple(sorted(self.own_held)))
+
     def twin(self):
         """A writing alike, that goes on by itself."""
         other = Writing(self.own_word, self.own_version, self.own_targets, self.own_need)
@@ -121,6 +125,11 @@ class Reading:
         """Of houses that answered those whose cell is unlike the joined one, with their homes."""
         homes = dict(self.own_targets)
         return [(house, homes[house]) for house in houses if self.own_answers[house] != self.own_joined]
+
+    def state(self):
+        """All by which readings are alike, whatever the order of their answers."""
+        answers = tuple([(house, self.own_answers[house]) for house in sorted(self.own_answers)])
+        return (self.own_word, tuple(self.own_targets), self.own_need, answers, self.own_joined, self.own_telling)
 
     def twin(self):
         """A reading alike, that goes on by itself."""

@@ -1,6 +1,7 @@
 """The forms of deeds, tuples of a word and what is told behind it."""
 
 from heldhints.cells import is_worth
+from heldhints.errors import NoDeed
 from heldhints.kinds import first_wrong, is_between, is_whole, is_word
 from heldhints.ring import is_place
 
@@ -58,3 +59,12 @@ def has_form(part, form):
 def are_places(thing):
     """Whether a thing, of any kind, is a tuple of one or more unlike places."""
     return isinstance(thing, tuple) and len(thing) > 0 and first_wrong(thing, is_place) is None
+
+
+def look_at_weaving(thing):
+    """Refuses what is no list of deeds, with the number of the first thing that is none."""
+    if not isinstance(thing, list):
+        raise NoDeed(None)
+    for number, deed in enumerate(thing):
+        if not is_deed(deed):
+            raise NoDeed(number)

@@ -1,85 +1,46 @@
 """Mending: notes are given back and houses compared, until all is calm."""
 
 from heldhints.cells import joined
-from heldhints.errors import Away, NoHouse, NoSteps
-from heldhints.kinds import is_between, is_word
+from heldhints.errors import NoHouse, NoSteps
+from heldhints.giving import flow
+from heldhints.kinds import is_between
+from heldhints.looks import look_at_here
 from heldhints.trees import Tree, differing
 
 MOST_ROUNDS = 100
 
 
-class Mendable:
-    """All that mending asks of a world: what has these methods can be mended.
-
-    They stand here since mending changes a world by its deeds alone, and needs no more of it.
-    """
-
-    def houses(self):
-        """The names of all houses, sorted."""
-        raise NotImplementedError("houses")
-
-    def is_away(self, name):
-        """Whether a house is away."""
-        raise NotImplementedError("is_away")
-
-    def one_house(self, name):
-        """A twin of a House."""
-        raise NotImplementedError("one_house")
-
-    def do(self, deed):
-        """Does a deed."""
-        raise NotImplementedError("do")
-
-
-def look_at_houses(world, names):
-    """Refuses what is no house of the world, then houses that are away."""
-    houses = world.houses()
-    for name in names:
-        if not is_word(name) or name not in houses:
-            raise NoHouse(name)
-    for name in names:
-        if world.is_away(name):
-            raise Away(name)
-
-
 def give_back(world, house):
-    """A house sends each of its notes to the home for which it is."""
-    look_at_houses(world, [house])
-    world.do(("return", house))
+    """A house sends each of its notes to the home for which it is, by keys, then homes."""
+    look_at_here(world, [house])
+    keeper = world.own_houses[house]
+    for word, home in keeper.notes():
+        world.send("bring", None, house, home, word, keeper.note(word, home), None)
 
 
 def compared(world, one, other):
-    """Two houses have alike what both are homes of."""
-    look_at_houses(world, [one, other])
+    """Two houses have the join of each key of which both are homes and that their trees tell."""
+    look_at_here(world, [one, other])
     if one == other:
         raise NoHouse(other)
-    world.do(("compare", one, other))
+    names = [one, other]
+    keys, looked = differing(tree_of_both(world, one, names), tree_of_both(world, other, names))
+    for word in keys:
+        both = joined([world.own_houses[name].cell(word) for name in names])
+        for name in names:
+            world.own_houses[name].put_cell(word, both)
+    world.record(("compared", one, other, tuple(keys), looked))
 
 
-def notes_to_bring(house):
-    """What a house gives back, a list of tuples (key, home, cell), by keys, then homes."""
-    return [(word, home, house.note(word, home)) for word, home in house.notes()]
-
-
-def tree_of_both(shape, house, names):
+def tree_of_both(world, name, names):
     """The tree of a house's cells of those keys of which all these houses are homes."""
+    house = world.own_houses[name]
     cells = {}
     for word in house.words():
-        homes = shape.homes(word)
-        if all([name in homes for name in names]):
+        homes = world.own_shape.homes(word)
+        if all([home in homes for home in names]):
             cells[word] = house.cell(word)
     return Tree(cells)
-
-
-def share_cells(shape, one, other):
-    """Two houses have the join of each key of which both are homes and that their trees tell: (keys, looked)."""
-    names = [one.called(), other.called()]
-    keys, looked = differing(tree_of_both(shape, one, names), tree_of_both(shape, other, names))
-    for word in keys:
-        both = joined([one.cell(word), other.cell(word)])
-        one.put_cell(word, both)
-        other.put_cell(word, both)
-    return (tuple(keys), looked)
 
 
 def calm(world, rounds):
@@ -96,10 +57,10 @@ def does_calm_round(world):
     """Does one calm round; tells whether it turned some cell or note."""
     ahead = all_kept(world)
     names = [name for name in world.houses() if not world.is_away(name)]
-    world.do(("flow",))
+    flow(world)
     for name in names:
         give_back(world, name)
-    world.do(("flow",))
+    flow(world)
     for number, one in enumerate(names):
         for other in names[number + 1:]:
             compared(world, one, other)

@@ -138,6 +138,7 @@ class Interface(unittest.TestCase):
         "asks.py": "targets",
         "deeds.py": "is_deed",
         "mending.py": "calm give_back compared",
+        "moving.py": "come_in go_out",
     }
     classes = {
         ("ring.py", "Ring"): "marks houses order homes with_house without __eq__ __len__",
@@ -148,6 +149,10 @@ class Interface(unittest.TestCase):
         ("asks.py", "Writing"): "word version targets held is_told answered twin",
         ("asks.py", "Reading"): "word targets held is_told told cell answered twin",
         ("shape.py", "Shape"): "ring counts most kept homes with_ring __eq__",
+        ("world.py", "World"): "do weave shape houses letters asked log one_house thoughts asker_twin book is_away now twin "
+                               "__eq__ __len__",
+        ("askers.py", "Asker"): "known learn hear begin leave_off busy tellings words called twin __eq__ __len__",
+        ("book.py", "Book"): "versions told swept came_of losses twin",
     }
 
     def test_each_function_stands_in_its_file(self):

@@ -1,16 +1,14 @@
-"""[8.1], [8.2]: mending, as far as it can be tried without a World; [0.2] as far as it speaks of it."""
+"""[8.1], [8.2]: mending in a world; [0.2] as far as it speaks of it."""
 
 import itertools
 import unittest
 
 from cases import Case
-from heldhints.errors import Away, NoHouse, NoSteps
-from heldhints.house import House
-from heldhints.mending import Mendable, calm, compared, give_back, notes_to_bring, share_cells
-from heldhints.ring import Ring, place_of
-from heldhints.shape import Shape
+from heldhints.errors import Away, NoDeed, NoHouse, NoSteps
+from heldhints.mending import calm, compared, give_back
+from heldhints.ring import place_of
 from odd import Sour, no_wholes, no_words
-from standin import StandIn
+from worlds import HOMES, all_of_it, four, plant, under_way
 
 A1, A2, B1 = (1, "a", 1), (2, "a", 1), (1, "b", 1)
 FIRST = ((A1, (), 10),)
@@ -18,243 +16,286 @@ BESIDE = ((B1, (), 20),)
 BOTH = FIRST + BESIDE
 SECOND = ((A2, (A1,), 30),)
 
-RING = Ring([(0, "a"), (20, "b"), (40, "c"), (50, "d")])
-# With two copies the homes of k (place 11) are b and c, of z (26) c and d, of ab (7) b and c, of lc (63) a and b.
-HOMES = {"k": ["b", "c"], "z": ["c", "d"], "ab": ["b", "c"], "lc": ["a", "b"]}
-ROUND_OF_THREE = [("flow",), ("return", "a"), ("return", "b"), ("return", "c"), ("flow",), ("compare", "a", "b"),
-                  ("compare", "a", "c"), ("compare", "b", "c")]
+
+def by_deed(world, *deed):
+    world.do(deed)
 
 
-def stand_in(ring=RING):
-    return StandIn(ring, copies=2)
-
-
-class Steps(Case):
-    def test_at_the_edges(self):
-        for rounds in (1, 100):
-            self.assertEqual(calm(stand_in(), rounds), 0)
-        for rounds in (0, -1, 101, 10 ** 29, True, False):
-            self.refuses(NoSteps, calm, stand_in(), rounds)
-
-    def test_of_anything(self):
-        world = stand_in()
-        for thing in no_wholes():
-            self.refuses(NoSteps, calm, world, thing)
-        self.assertEqual(world.done, [])
-
-    def test_ahead_of_all_that_is_asked_of_the_world(self):
-        for world in (None, Sour(), Mendable()):
-            for rounds in (0, 101, True, None):
-                self.refuses(NoSteps, calm, world, rounds)
+class Homes(Case):
+    def test_as_the_tests_below_take_them(self):
+        self.assertEqual({word: place_of(word) for word in HOMES}, {"k": 11, "z": 26, "ab": 7, "lc": 63})
+        self.assertEqual({word: four().shape().homes(word) for word in HOMES}, HOMES)
 
 
 class GivenBack(Case):
-    def test_the_deed(self):
-        world = stand_in()
-        self.assertIs(give_back(world, "b"), None)
-        self.assertEqual(world.done, [("return", "b")])
+    def noted(self):
+        world = four()
+        for name, word, home, cell in (("a", "k", "c", FIRST), ("a", "k", "b", BOTH), ("a", "ab", "b", SECOND)):
+            plant(world, name, word, cell, place=home)
+        return world
+
+    def test_each_note_by_keys_then_homes(self):
+        world = self.noted()
+        plant(world, "a", "lc", BESIDE)
+        self.assertEqual(world.do(("return", "a")), [])
+        self.assertEqual(under_way(world), [
+            ("bring", None, "a", "b", "ab", SECOND, None),
+            ("bring", None, "a", "b", "k", BOTH, None),
+            ("bring", None, "a", "c", "k", FIRST, None)])
+        self.assertEqual(world.one_house("a").notes(), [("ab", "b"), ("k", "b"), ("k", "c")])
+
+    def test_brought_and_took(self):
+        world = self.noted()
+        world.do(("return", "a"))
+        world.do(("give", 1))
+        self.assertEqual(world.one_house("b").cell("k"), BOTH)
+        self.assertEqual(world.one_house("a").note("k", "b"), BOTH)
+        self.assertEqual(world.letters()[-1], (3, ("took", None, "b", "a", "k", BOTH, None)))
+        world.do(("give", 3))
+        self.assertEqual(world.one_house("a").notes(), [("ab", "b"), ("k", "c")])
+        self.assertEqual(world.log(), [])
+
+    def test_some_brings_lost_and_some_given_twice(self):
+        world = self.noted()
+        world.weave([("return", "a"), ("lose", 0), ("twice", 1), ("flow",)])
+        self.assertEqual(world.one_house("a").notes(), [("ab", "b")])
+        self.assertEqual(world.one_house("b").cell("k"), BOTH)
+        self.assertEqual(world.one_house("c").cell("k"), FIRST)
+        world.weave([("return", "a"), ("flow",)])
+        self.assertEqual((world.one_house("a").notes(), world.one_house("b").cell("ab")), ([], SECOND))
+
+    def test_what_came_to_the_note_since_stays(self):
+        world = self.noted()
+        world.do(("return", "a"))
+        plant(world, "a", "k", BESIDE, place="c")
+        world.do(("flow",))
+        self.assertEqual(world.one_house("a").notes(), [("k", "c")])
+        self.assertEqual(world.one_house("a").note("k", "c"), BESIDE)
+
+    def test_no_notes(self):
+        world = four()
+        self.assertIs(give_back(world, "a"), None)
+        self.assertEqual(world.letters(), [])
 
     def test_no_house_then_away(self):
-        world = stand_in()
+        world = four()
         for thing in no_words() + ["e", "ab"]:
             self.refuses(NoHouse, give_back, world, thing, house=thing)
-        world.gone_away = {"b"}
+        world.do(("away", "b"))
+        before = all_of_it(world)
         self.refuses(Away, give_back, world, "b", house="b")
-        self.assertEqual(world.done, [])
+        self.refuses(Away, by_deed, world, "return", "b", house="b")
+        self.refuses(NoHouse, by_deed, world, "return", "e", house="e")
+        self.refuses(NoDeed, by_deed, world, "return", "B", number=None)
+        self.assertEqual(all_of_it(world), before)
 
-    def test_notes_by_keys_then_homes(self):
-        house = House("a")
-        for word, home, cell in (("k", "c", FIRST), ("k", "b", BOTH), ("ab", "d", SECOND)):
-            house.keep(word, cell, place=home)
-        house.keep("k", BESIDE)
-        before = house.twin()
-        self.assertEqual(notes_to_bring(house), [("ab", "d", SECOND), ("k", "b", BOTH), ("k", "c", FIRST)])
-        self.are_alike(house, before)
-        self.assertEqual(notes_to_bring(House("a")), [])
+    def test_the_function_is_the_deed(self):
+        one, other = self.noted(), self.noted()
+        self.assertIs(give_back(one, "a"), None)
+        other.do(("return", "a"))
+        self.assertEqual(all_of_it(one), all_of_it(other))
 
 
 class Compared(Case):
-    def test_the_deed(self):
-        world = stand_in()
-        self.assertIs(compared(world, "c", "a"), None)
-        self.assertEqual(world.done, [("compare", "c", "a")])
+    def shared(self, one, other, ours=(), theirs=()):
+        """The cells of k and z and ab that two houses have when they are compared, and what is told."""
+        world = four()
+        for word, cell in ours:
+            plant(world, one, word, cell)
+        for word, cell in theirs:
+            plant(world, other, word, cell)
+        return world, world.do(("compare", one, other))
 
-    def test_no_house_of_either(self):
-        world = stand_in()
-        world.gone_away = {"a", "b"}
+    def test_both_have_the_join(self):
+        world, told = self.shared("b", "c", [("k", FIRST)], [("k", BESIDE), ("ab", SECOND)])
+        # The leaves of 7 and 11 part below the fourth level: three lone ways down, then two.
+        self.assertEqual(told, [("compared", "b", "c", ("ab", "k"), 1 + 2 * 3 + 4 * 3)])
+        for name in ("b", "c"):
+            self.assertEqual((world.one_house(name).cell("k"), world.one_house(name).cell("ab")), (BOTH, SECOND))
+        self.assertEqual(world.do(("compare", "b", "c")), [("compared", "b", "c", (), 1)])
+        self.assertEqual(world.do(("compare", "c", "b")), [("compared", "c", "b", (), 1)])
+        self.assertEqual(len(world.log()), 3)
+        self.assertEqual(world.letters(), [])
+
+    def test_of_keys_alone_of_which_both_are_homes(self):
+        world, told = self.shared("b", "c", [("lc", FIRST)], [("lc", SECOND), ("z", FIRST)])
+        self.assertEqual(told, [("compared", "b", "c", (), 1)])
+        self.assertEqual([world.one_house(name).cell("lc") for name in "bc"], [FIRST, SECOND])
+        self.assertEqual([world.one_house(name).cell("z") for name in "bc"], [(), FIRST])
+
+    def test_notes_stay_as_they_are(self):
+        world = four()
+        plant(world, "b", "k", FIRST, place="c")
+        plant(world, "c", "k", BESIDE)
+        self.assertEqual(world.do(("compare", "b", "c")), [("compared", "b", "c", ("k",), 13)])
+        house = world.one_house("b")
+        self.assertEqual((house.cell("k"), house.note("k", "c")), (BESIDE, FIRST))
+
+    def test_like_dots_are_not_told(self):
+        world, told = self.shared("b", "c", [("k", FIRST), ("ab", FIRST)], [("k", FIRST)])
+        self.assertEqual(told, [("compared", "b", "c", ("ab",), 13)])
+
+    def test_either_way_about(self):
+        for one, other in (("b", "c"), ("c", "b")):
+            world, told = self.shared(one, other, [("k", FIRST)], [("k", SECOND)])
+            self.assertEqual(told, [("compared", one, other, ("k",), 13)])
+            self.assertEqual([world.one_house(name).cell("k") for name in "bc"], [SECOND, SECOND])
+
+    def test_houses_without_a_key_in_common(self):
+        world, told = self.shared("a", "c", [("lc", FIRST)], [("z", FIRST)])
+        self.assertEqual(told, [("compared", "a", "c", (), 1)])
+
+    def test_refusals_in_their_order(self):
+        world = four()
+        world.weave([("away", "a"), ("away", "b")])
+        before = all_of_it(world)
         for thing in no_words() + ["e"]:
             self.refuses(NoHouse, compared, world, thing, "a", house=thing)
             self.refuses(NoHouse, compared, world, "a", thing, house=thing)
             self.refuses(NoHouse, compared, world, thing, thing, house=thing)
         self.refuses(NoHouse, compared, world, "e", "f", house="e")
-        self.assertEqual(world.done, [])
-
-    def test_then_away_of_either(self):
-        world = stand_in()
-        world.gone_away = {"a", "b"}
         for one, other, house in (("a", "c", "a"), ("c", "a", "a"), ("a", "b", "a"), ("b", "a", "b"), ("a", "a", "a")):
             self.refuses(Away, compared, world, one, other, house=house)
-        self.assertEqual(world.done, [])
+            self.refuses(Away, by_deed, world, "compare", one, other, house=house)
+        self.refuses(NoHouse, compared, world, "c", "c", house="c")
+        self.refuses(NoHouse, by_deed, world, "compare", "c", "c", house="c")
+        self.refuses(NoHouse, by_deed, world, "compare", "a", "e", house="e")
+        self.refuses(NoDeed, by_deed, world, "compare", "e", "E", number=None)
+        self.assertEqual(all_of_it(world), before)
 
-    def test_then_the_same_one_twice(self):
-        world = stand_in()
-        self.refuses(NoHouse, compared, world, "a", "a", house="a")
-        self.assertEqual(world.done, [])
+    def test_the_function_is_the_deed(self):
+        one, other = four(), four()
+        for world in (one, other):
+            plant(world, "b", "k", FIRST)
+        self.assertIs(compared(one, "b", "c"), None)
+        other.do(("compare", "b", "c"))
+        self.assertEqual(all_of_it(one), all_of_it(other))
 
 
-class Shared(Case):
-    def setUp(self):
-        self.shape = Shape(RING, copies=2)
-        self.one, self.other = House("b"), House("c")
+class Steps(Case):
+    def test_at_the_edges(self):
+        for rounds in (1, 100):
+            self.assertEqual(calm(four(), rounds), 0)
+        for rounds in (0, -1, 101, 10 ** 29, True, False):
+            self.refuses(NoSteps, calm, four(), rounds)
 
-    def test_homes(self):
-        self.assertEqual({word: place_of(word) for word in HOMES}, {"k": 11, "z": 26, "ab": 7, "lc": 63})
-        self.assertEqual({word: self.shape.homes(word) for word in HOMES}, HOMES)
+    def test_of_anything(self):
+        world = four()
+        plant(world, "b", "k", FIRST)
+        before = all_of_it(world)
+        for thing in no_wholes():
+            self.refuses(NoSteps, calm, world, thing)
+        self.assertEqual(all_of_it(world), before)
 
-    def test_both_have_the_join(self):
-        self.one.keep("k", FIRST)
-        self.other.keep("k", BESIDE)
-        self.other.keep("ab", SECOND)
-        # The leaves of 7 and 11 part below the fourth level: three lone ways down, then two.
-        self.assertEqual(share_cells(self.shape, self.one, self.other), (("ab", "k"), 1 + 2 * 3 + 4 * 3))
-        for house in (self.one, self.other):
-            self.assertEqual((house.cell("k"), house.cell("ab")), (BOTH, SECOND))
-        self.assertEqual(share_cells(self.shape, self.one, self.other), ((), 1))
-
-    def test_of_keys_alone_of_which_both_are_homes(self):
-        self.one.keep("lc", FIRST)
-        self.other.keep("lc", SECOND)
-        self.other.keep("z", FIRST)
-        before = (self.one.twin(), self.other.twin())
-        self.assertEqual(share_cells(self.shape, self.one, self.other), ((), 1))
-        self.are_alike(self.one, before[0])
-        self.are_alike(self.other, before[1])
-
-    def test_notes_stay_as_they_are(self):
-        self.one.keep("k", FIRST, place="c")
-        self.other.keep("k", BESIDE)
-        self.assertEqual(share_cells(self.shape, self.one, self.other), (("k",), 13))
-        self.assertEqual((self.one.cell("k"), self.one.note("k", "c")), (BESIDE, FIRST))
-
-    def test_like_dots_are_not_told(self):
-        self.one.keep("k", FIRST)
-        self.other.keep("k", FIRST)
-        self.one.keep("ab", FIRST)
-        self.assertEqual(share_cells(self.shape, self.one, self.other), (("ab",), 13))
-
-    def test_either_way_about(self):
-        self.one.keep("k", FIRST)
-        self.other.keep("k", SECOND)
-        ones, others = self.one.twin(), self.other.twin()
-        self.assertEqual(share_cells(self.shape, self.one, self.other), share_cells(self.shape, others, ones))
-        self.are_alike(self.one, ones)
-        self.are_alike(self.other, others)
-        self.assertEqual(self.one.cell("k"), SECOND)
+    def test_ahead_of_all_that_is_asked_of_the_world(self):
+        for world in (None, Sour()):
+            for rounds in (0, 101, True, None):
+                self.refuses(NoSteps, calm, world, rounds)
 
 
 class Calm(Case):
+    def compares(self, world):
+        return [thing[1:3] for thing in world.log()]
+
     def test_the_deeds_of_a_round(self):
-        world = stand_in(Ring([(0, "c"), (20, "a"), (40, "b")]))
-        self.assertEqual(calm(world, 5), 0)
-        self.assertEqual(world.done, ROUND_OF_THREE)
+        """As the deeds themselves, done one behind the other."""
+        one, other = four(), four()
+        for world in (one, other):
+            plant(world, "a", "k", FIRST, place="c")
+            plant(world, "d", "ab", FIRST, place="b")
+            world.do(("write", "me", "a", "z", 7))
+        self.assertEqual(calm(one, 1), 1)
+        other.do(("flow",))
+        for name in "abcd":
+            other.do(("return", name))
+        other.do(("flow",))
+        for pair in itertools.combinations("abcd", 2):
+            other.do(("compare",) + pair)
+        self.assertEqual(all_of_it(one), all_of_it(other))
 
     def test_houses_that_are_away_take_no_part(self):
-        world = stand_in(RING)
-        world.gone_away = {"d"}
+        world = four()
+        world.do(("away", "b"))
+        plant(world, "a", "k", FIRST, place="b")
         self.assertEqual(calm(world, 5), 0)
-        self.assertEqual(world.done, ROUND_OF_THREE)
-        world = stand_in(RING)
-        world.gone_away = {"a", "b", "c", "d"}
+        self.assertEqual(self.compares(world), [("a", "c"), ("a", "d"), ("c", "d")])
+        self.assertEqual(world.one_house("a").notes(), [("k", "b")])
+        self.assertEqual(world.letters(), [])
+        for name in "acd":
+            world.do(("away", name))
         self.assertEqual(calm(world, 5), 0)
-        self.assertEqual(world.done, [("flow",), ("flow",)])
+        self.assertEqual(len(world.log()), 3)
 
     def test_until_one_turns_nothing(self):
         for rounds in (2, 3, 100):
-            world = stand_in()
-            world.kept_by["b"].keep("k", FIRST)
+            world = four()
+            plant(world, "b", "k", FIRST)
             self.assertEqual(calm(world, rounds), 1)
-            self.assertEqual(world.done.count(("flow",)), 4)
-            self.assertEqual(world.kept_by["c"].cell("k"), FIRST)
+            self.assertEqual(len(world.log()), 2 * 6)
+            self.assertEqual(world.one_house("c").cell("k"), FIRST)
 
     def test_so_many_at_most(self):
-        world = stand_in()
-        world.kept_by["b"].keep("k", FIRST)
+        world = four()
+        plant(world, "b", "k", FIRST)
         self.assertEqual(calm(world, 1), 1)
-        self.assertEqual(world.done.count(("flow",)), 2)
+        self.assertEqual(len(world.log()), 6)
         self.assertEqual(calm(world, 1), 0)
-        self.assertEqual(world.done.count(("flow",)), 4)
+        self.assertEqual(len(world.log()), 2 * 6)
+
+    def test_several_rounds_turn_something_where_known_is_cut(self):
+        """Houses that cut versions come to in a second round, since an elder one was put out too early."""
+        world = four(copies=3)
+        homes = world.shape().homes("k")
+        self.assertEqual(homes, ["b", "c", "d"])
+        third = (((3, "a", 1), (A2,), 40),)
+        plant(world, "b", "k", third)
+        plant(world, "c", "k", FIRST)
+        plant(world, "d", "k", SECOND)
+        turned = calm(world, 100)
+        self.assertGreaterEqual(turned, 1)
+        self.assertEqual(calm(world, 1), 0)
+        self.assertEqual(len({world.one_house(name).cell("k") for name in homes}), 1)
+
+    def test_a_letter_alone_that_turns_something_counts(self):
+        world = four()
+        world.weave([("write", "me", "b", "k", 5)])
+        self.assertEqual(calm(world, 9), 1)
+        self.assertEqual(world.log()[0], ("wrote", "me", "k", B1))
 
     def test_a_note_alone_turned_counts(self):
-        world = stand_in()
-        world.kept_by["c"].keep("k", FIRST)
-        world.kept_by["b"].keep("k", FIRST)
-        world.kept_by["d"].keep("k", FIRST, place="b")
+        world = four()
+        for name, place in (("b", None), ("c", None), ("d", "b")):
+            plant(world, name, "k", FIRST, place=place)
         self.assertEqual(calm(world, 9), 1)
-        self.assertEqual(world.kept_by["d"].notes(), [])
-
-    def test_rounds_that_turn_something_each(self):
-        """A world in which each round turns one cell, so many times."""
-        for turns, rounds in itertools.product((0, 1, 3, 100, 200), (1, 2, 3, 4, 100)):
-            world = Turning(turns)
-            self.assertEqual(calm(world, rounds), min(turns, rounds))
-            self.assertEqual(world.flows, 2 * min(turns + 1, rounds))
+        self.assertEqual(world.one_house("d").notes(), [])
 
     def test_behind_one_round_all_homes_are_alike_and_no_note_is_left(self):
         cells = ((), FIRST, BESIDE, SECOND)
         for ours, theirs, note, other_note in itertools.product(cells, repeat=4):
-            world = stand_in()
-            world.kept_by["b"].keep("k", ours)
-            world.kept_by["c"].keep("k", theirs)
-            world.kept_by["d"].keep("k", note, place="b")
-            world.kept_by["a"].keep("k", other_note, place="c")
+            world = four()
+            plant(world, "b", "k", ours)
+            plant(world, "c", "k", theirs)
+            plant(world, "d", "k", note, place="b")
+            plant(world, "a", "k", other_note, place="c")
             calm(world, 1)
-            self.assertEqual(world.kept_by["b"].cell("k"), world.kept_by["c"].cell("k"))
-            self.assertEqual([house.notes() for house in world.kept_by.values()], [[]] * 4)
+            self.assertEqual(world.one_house("b").cell("k"), world.one_house("c").cell("k"))
+            self.assertEqual([world.one_house(name).notes() for name in "abcd"], [[]] * 4)
             self.assertEqual(calm(world, 1), 0)
-
-
-class Turning(Mendable):
-    """Has one house, whose cell each second flow turns, so many times."""
-
-    def __init__(self, turns):
-        self.turns = turns
-        self.flows = 0
-
-    def houses(self):
-        return ["a"]
-
-    def is_away(self, name):
-        return False
-
-    def one_house(self, name):
-        house = House("a")
-        house.keep("k", (((min(self.flows // 2, self.turns) + 1, "a", 1), (), 5),))
-        return house
-
-    def do(self, deed):
-        self.flows += deed == ("flow",)
 
 
 class Arguments(Case):
     def test_by_names(self):
-        world = stand_in()
+        world = four()
         self.assertEqual(calm(rounds=1, world=world), 0)
-        world.done.clear()
         give_back(house="a", world=world)
         compared(other="b", one="a", world=world)
-        self.assertEqual(world.done, [("return", "a"), ("compare", "a", "b")])
+        self.assertEqual(world.log()[-1], ("compared", "a", "b", (), 1))
 
     def test_none_may_be_left_out(self):
-        world = stand_in()
+        world = four()
         self.assertRaises(TypeError, calm, world)
         self.assertRaises(TypeError, give_back, world)
         self.assertRaises(TypeError, compared, world, "a")
-
-    def test_what_is_asked_of_a_world(self):
-        for call in (lambda: calm(Mendable(), 1), lambda: give_back(Mendable(), "a")):
-            self.assertRaises(NotImplementedError, call)
-        for call in (lambda: Mendable().is_away("a"), lambda: Mendable().one_house("a"), lambda: Mendable().do(("flow",))):
-            self.assertRaises(NotImplementedError, call)
 
 
 if __name__ == "__main__":
