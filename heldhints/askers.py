@@ -29,8 +29,9 @@ class Asker:
 
     def learn(self, word, known):
         """It knows of a key what it knew and this, together; tells whether it didn't know all of it."""
-        look_at_learned(word, known)
         elder = self.known(word)
+        if not is_known(known):
+            raise NoKnown()
         both = together([elder, known])
         if both:
             self.own_known[word] = both
@@ -54,8 +55,8 @@ class Asker:
         """The answer of an ask: where that is the one under way it is learnt, kept and over; tells whether it was."""
         if not is_whole(number) or number != self.own_busy:
             return False
-        look_at_learned(word, known)
         telling = (number, word, None if worths is None else tuple(worths))
+        # What is refused here leaves the ask under way.
         self.learn(word, known)
         self.own_busy = None
         self.own_tellings.append(telling)
@@ -91,10 +92,3 @@ class Asker:
 
     def __len__(self):
         return len(self.own_tellings)
-
-
-def look_at_learned(word, known):
-    """Refuses what is no key, then what is nothing known."""
-    look_at_key(word)
-    if not is_known(known):
-        raise NoKnown()

@@ -142,6 +142,11 @@ class Goes(Case):
         self.assertEqual(world.one_house("b").life(), 5)
         self.assertEqual(world.weave([("write", "me", "b", "k", 5), ("flow",)])[1], [("wrote", "me", "k", (1, "b", 5))])
 
+    def test_houses_are_told_sorted_all_the_same(self):
+        world = four()
+        world.weave([("go", "b"), ("come", "b", (20,)), ("come", "aa", (21,))])
+        self.assertEqual(world.houses(), ["a", "aa", "b", "c", "d"])
+
     def test_what_it_wrote_keeps_its_dot(self):
         world = four(write=1)
         world.weave([("write", "me", "b", "k", 5), ("flow",), ("go", "b"), ("come", "b", (20,))])

@@ -118,6 +118,13 @@ class Alike(Case):
         self.are_unlike(one, woven(("come", "f", (3,)), ("go", "f")))
 
 
+    def test_the_order_in_which_houses_went_away_or_for_good_is_no_part(self):
+        self.are_alike(woven(("away", "a"), ("away", "b")), woven(("away", "b"), ("away", "a")))
+        both = (("come", "e", (3,)), ("come", "f", (9,)))
+        self.are_alike(woven(*both, ("go", "e"), ("go", "f")), woven(*both, ("go", "f"), ("go", "e")))
+        self.are_alike(woven(*both), woven(*both[::-1]))
+
+
 class Twins(Case):
     def test_go_on_by_themselves(self):
         for draw in draws(40, "twins"):
